@@ -1,0 +1,1 @@
+"""Boards that change in blocks of two by two, and can be run back."""

@@ -1,0 +1,25 @@
+import inspect
+import unittest
+
+from blockturn import blocks, boards
+
+ARGUMENTS = (
+    (blocks, "block_of", ["number", "colours"]),
+    (blocks, "number_of", ["block", "colours"]),
+    (blocks, "looked", ["rule", "colours"]),
+    (blocks, "rule_back", ["rule"]),
+    (blocks, "named", ["name"]),
+    (boards, "looked_board", ["board", "colours"]),
+    (boards, "moved", ["board", "a", "b"]),
+    (boards, "turned_board", ["board", "turning"]),
+    (boards, "turned_rule", ["rule", "colours", "turning"]),
+    (boards, "total", ["board", "weights"]),
+    (boards, "keeps", ["rule", "colours", "weights"]),
+)
+
+
+class Interface(unittest.TestCase):
+    def test_names_and_arguments(self):
+        for module, name, arguments in ARGUMENTS:
+            with self.subTest(name):
+                self.assertEqual(list(inspect.signature(getattr(module, name)).parameters), arguments)
