@@ -12,6 +12,17 @@ def made(width, height, colours):
     return tuple(tuple((x * x + 3 * y * y + x * y // 2) % colours for x in range(width)) for y in range(height))
 
 
+def with_cell(board, x, y, colour):
+    rows = [list(row) for row in board]
+    rows[y][x] = colour
+    return tuple(tuple(row) for row in rows)
+
+
+def with_ones(width, height, *places):
+    """A board of noughts but for the places (x, y) that are told."""
+    return tuple(tuple(int((x, y) in places) for x in range(width)) for y in range(height))
+
+
 def scattered(colours):
     """A rule that is not its own rule back, and looks alike from no two sides."""
     size = SIZES[colours]

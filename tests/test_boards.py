@@ -3,15 +3,9 @@ import unittest
 from blockturn.blocks import named
 from blockturn.boards import looked_board, moved
 from blockturn.errors import NoBoard
-from helpers import HUGE, made, stepped
+from helpers import HUGE, made, stepped, with_cell
 
 EVEN = range(2, 17, 2)
-
-
-def with_cell(board, x, y, colour):
-    rows = [list(row) for row in board]
-    rows[y][x] = colour
-    return tuple(tuple(row) for row in rows)
 
 
 def with_row(board, y, row):

@@ -1,7 +1,7 @@
 import inspect
 import unittest
 
-from blockturn import blocks, boards
+from blockturn import again, blocks, boards, notes, running
 
 ARGUMENTS = (
     (blocks, "block_of", ["number", "colours"]),
@@ -15,6 +15,15 @@ ARGUMENTS = (
     (boards, "turned_rule", ["rule", "colours", "turning"]),
     (boards, "total", ["board", "weights"]),
     (boards, "keeps", ["rule", "colours", "weights"]),
+    (running, "forward", ["board", "rule", "colours", "moment", "steps"]),
+    (running, "back", ["board", "rule", "colours", "moment", "steps"]),
+    (again, "comes_again", ["board", "rule", "colours", "moment", "most"]),
+    (again, "moves", ["board", "rule", "colours", "moment", "steps"]),
+    (again, "rings", ["rule", "colours", "width", "height"]),
+    (notes, "board_shown", ["board"]),
+    (notes, "rule_shown", ["rule", "colours"]),
+    (notes, "read_board", ["text", "colours"]),
+    (notes, "read_rule", ["text"]),
 )
 
 

@@ -1,15 +1,18 @@
 import unittest
 
+from blockturn.again import comes_again, moves, rings
 from blockturn.blocks import looked, named, number_of, rule_back
 from blockturn.boards import keeps, looked_board, moved, total, turned_board, turned_rule
-from blockturn.errors import BlockError
+from blockturn.errors import BlockError, TooLong, TooMany
+from blockturn.notes import board_shown, read_board, read_rule, rule_shown
+from blockturn.running import back, forward
 from helpers import SIZES, scattered
 
 BOARD = ((0, 1, 1, 0), (1, 1, 0, 0))
 
 
 def spoil(values):
-    values[0] = -99
+    values[:1] = [-99]
     values.append(-98)
 
 
@@ -19,6 +22,10 @@ LISTS = {
     "turned_rule 0": lambda rule, colours: turned_rule(rule, colours, 0),
     "turned_rule 1": lambda rule, colours: turned_rule(rule, colours, 1),
     "turned_rule 6": lambda rule, colours: turned_rule(rule, colours, 6),
+    "moves": lambda rule, colours: moves(((1,) * 4,) * 2, rule, colours, 0, 0),
+    "moves of none": lambda rule, colours: moves(BOARD, rule, colours, 0, 2),
+    "rings": lambda rule, colours: rings(rule, colours, 2, 2),
+    "read_rule": lambda rule, colours: read_rule(rule_shown(rule, colours))[1],
 }
 
 
@@ -35,9 +42,27 @@ class HandedIn(unittest.TestCase):
             for turning in range(8):
                 turned_rule(given, colours, turning)
             total(BOARD, weights)
+            for moment in (-1, 0, 1):
+                forward(BOARD, given, colours, moment, 3)
+                back(BOARD, given, colours, moment, 3)
+                moves(BOARD, given, colours, moment, 2)
+            rings(given, colours, 2, 2)
+            rule_shown(given, colours)
             with self.subTest(colours=colours):
                 self.assertEqual(given, rule)
                 self.assertEqual(weights, [4, -5, 6][:colours])
+
+    def test_rules_stay_where_a_board_comes_again_or_not(self):
+        for colours in SIZES:
+            rule = scattered(colours)
+            given = list(rule)
+            with self.subTest(colours=colours):
+                with self.assertRaises(TooLong):
+                    comes_again(BOARD, given, colours, 0, 2)
+                comes_again(BOARD, given, colours, 0, 10 ** 6)
+                with self.assertRaises(TooMany):
+                    rings(given, colours, 16, 16)
+                self.assertEqual(given, rule)
 
     def test_refused_rules_stay(self):
         for rule in ([0] * 16, [16] * 16, [3, 1], list(range(15, -1, -1)) + [0]):
@@ -52,6 +77,12 @@ class HandedIn(unittest.TestCase):
         moved(BOARD, 3, 1)
         for turning in range(8):
             turned_board(BOARD, turning)
+        for moment in (0, 1):
+            forward(BOARD, named("critters"), 2, moment, 3)
+            back(BOARD, named("critters"), 2, moment, 3)
+            moves(BOARD, named("critters"), 2, moment, 2)
+            comes_again(BOARD, named("critters"), 2, moment, 1000)
+        read_board(board_shown(BOARD), 2)
         self.assertEqual(BOARD, ((0, 1, 1, 0), (1, 1, 0, 0)))
         block = (1, 0, 1, 1)
         number_of(block, 2)
@@ -77,6 +108,18 @@ class HandedIn(unittest.TestCase):
         weights[1] = 0
         self.assertIs(keeps(rule, 2, weights), True)
         self.assertEqual(total(BOARD, weights), 0)
+
+    def test_a_rule_changed_between_two_calls_counts_as_it_is_now(self):
+        rule = list(range(16))
+        self.assertEqual(forward(BOARD, rule, 2, 0, 1), BOARD)
+        self.assertEqual(back(BOARD, rule, 2, 1, 1), BOARD)
+        self.assertEqual(rings(rule, 2, 2, 2), [(1, 16)])
+        self.assertEqual(comes_again(BOARD, rule, 2, 0, 1000), 2)
+        rule[:] = named("turn")
+        self.assertEqual(forward(BOARD, rule, 2, 0, 1), ((1, 0, 0, 1), (1, 1, 0, 0)))
+        self.assertEqual(back(BOARD, rule, 2, 1, 1), ((1, 1, 0, 0), (0, 1, 1, 0)))
+        self.assertEqual(rings(rule, 2, 2, 2), [(1, 4), (2, 6)])
+        self.assertEqual(comes_again(BOARD, rule, 2, 0, 1000), 4)
 
 
 class Told(unittest.TestCase):
